@@ -1,0 +1,1 @@
+"""Panfalls: grains that fall to the lighter pan."""

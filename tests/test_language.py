@@ -1,0 +1,123 @@
+"""The rules of LANGUAGE.md that can be looked at simply; the others are for the reader."""
+
+import ast
+import builtins
+import os
+import re
+import unittest
+import warnings
+
+import panfalls
+
+FOLDER = os.path.dirname(panfalls.__file__)
+BUILTINS = set(
+    "len range enumerate zip min max sum abs sorted reversed int str bool list tuple dict set frozenset"
+    " isinstance ord repr any all divmod Exception ValueError TypeError KeyError IndexError LookupError"
+    " ZeroDivisionError ArithmeticError OverflowError RuntimeError NotImplementedError AttributeError"
+    " StopIteration NotImplemented".split()
+)
+BARRED = set(
+    "type typing typing_extensions enum Enum IntEnum StrEnum Flag IntFlag Generic Protocol ABC ABCMeta"
+    " namedtuple NamedTuple TypedDict TYPE_CHECKING abstractmethod register mro elements open input".split()
+)
+STATEMENTS = (ast.FunctionDef, ast.ClassDef, ast.ImportFrom, ast.Assign, ast.Expr)
+
+
+def files():
+    return sorted(name for name in os.listdir(FOLDER) if name != "__pycache__")
+
+
+def text_of(name):
+    with open(os.path.join(FOLDER, name), encoding="utf-8") as file:
+        return file.read()
+
+
+def trees():
+    return [(name, ast.parse(text_of(name))) for name in files()]
+
+
+def nodes(kind):
+    return [(name, node) for name, tree in trees() for node in ast.walk(tree) if isinstance(node, kind)]
+
+
+class Files(unittest.TestCase):
+    def test_names(self):
+        for name in files():
+            self.assertRegex(name, r"\A[a-z0-9_]+\.py\Z")
+
+    def test_signs_and_sizes(self):
+        for name in files():
+            text = text_of(name)
+            self.assertRegex(text, r"\A[ -~\n]*\Z")
+            rows = text.splitlines()
+            self.assertLessEqual(len(rows), 400)
+            self.assertLessEqual(max(len(row) for row in rows), 120)
+
+    def test_barred_words(self):
+        for name in files():
+            self.assertEqual(BARRED & set(re.findall(r"\w+", text_of(name))), set())
+
+    def test_no_warnings(self):
+        for name in files():
+            with warnings.catch_warnings():
+                warnings.simplefilter("error")
+                compile(text_of(name), name, "exec")
+
+
+class Code(unittest.TestCase):
+    def test_module_level(self):
+        for name, tree in trees():
+            for node in tree.body:
+                self.assertIsInstance(node, STATEMENTS, name)
+
+    def test_imports(self):
+        self.assertEqual(nodes(ast.Import), [])
+        for name, node in nodes(ast.ImportFrom):
+            self.assertEqual(node.level, 0)
+            self.assertRegex(node.module, r"\Apanfalls\.\w+\Z")
+
+    def test_functions_are_short(self):
+        for name, node in nodes(ast.FunctionDef):
+            self.assertLessEqual(node.end_lineno - node.lineno + 1, 40, node.name)
+
+    def test_builtins(self):
+        for name, node in nodes(ast.Name):
+            if isinstance(node.ctx, ast.Store):
+                self.assertFalse(hasattr(builtins, node.id), node.id)
+            elif hasattr(builtins, node.id):
+                self.assertIn(node.id, BUILTINS, name)
+
+    def test_arguments_and_imports_are_not_bound_anew(self):
+        for name, tree in trees():
+            taken = set()
+            for node in ast.walk(tree):
+                if isinstance(node, ast.ImportFrom):
+                    taken |= {alias.name for alias in node.names}
+                elif isinstance(node, ast.ClassDef):
+                    taken.add(node.name)
+            for node in ast.walk(tree):
+                if isinstance(node, ast.arg):
+                    self.assertFalse(hasattr(builtins, node.arg), node.arg)
+                    self.assertNotIn(node.arg, taken, name)
+                elif isinstance(node, ast.Name) and isinstance(node.ctx, ast.Store):
+                    self.assertNotIn(node.id, taken, name)
+
+    def test_plain_names(self):
+        for name, node in nodes(ast.Name):
+            self.assertFalse(node.id.startswith("_"), node.id)
+
+    def test_no_floats(self):
+        self.assertEqual(nodes(ast.Div), [])
+        for name, node in nodes(ast.Constant):
+            self.assertNotIsInstance(node.value, (float, complex))
+
+    def test_is_beside_constants_alone(self):
+        for name, node in nodes(ast.Compare):
+            for sign, right in zip(node.ops, node.comparators):
+                if isinstance(sign, (ast.Is, ast.IsNot)):
+                    self.assertIsInstance(right, ast.Constant)
+                    self.assertIn(right.value, (None, True, False))
+
+
+if __name__ == "__main__":
+    unittest.main()
