@@ -47,6 +47,14 @@ def pounds(standing, word):
     return (left, sum(word) - left)
 
 
+def pounds_between(before, after, fallen):
+    """The pair of the pounds left and right, of all that fell from one standing to another."""
+    # A pound to the left makes a standing two half pounds more, one to the right as much less.
+    more_left = (after - before) // 2
+    left = (fallen + more_left) // 2
+    return (left, fallen - left)
+
+
 def ahead_of(standing, side, weight):
     """The standing from which the weight fell to that side and left this one, or None."""
     if side == LEFT:

@@ -5,10 +5,11 @@ last: all odd sizes of standings from first to last.
 """
 
 from panfalls.falls import is_standing, is_word
+from panfalls.kinds import is_pair
 
 
 def is_run(thing):
-    if not isinstance(thing, tuple) or len(thing) != 2:
+    if not is_pair(thing):
         return False
     first, last = thing
     return is_standing(first) and is_standing(last) and 1 <= first <= last
@@ -59,6 +60,16 @@ def is_whole(run, word):
     return True
 
 
+def stays_whole(run, word):
+    """Whether the run is whole by the word, and is what the word makes of it."""
+    return is_whole(run, word) and behind(run, word) == run
+
+
 def is_within(inner, outer):
     """Whether all sizes of the inner run are in the outer one."""
     return outer[0] <= inner[0] and inner[1] <= outer[1]
+
+
+def is_size_in(standing, run):
+    size = abs(standing)
+    return is_within((size, size), run)

@@ -1,7 +1,7 @@
 """A word that comes again and again at one balance, far grains too."""
 
-from panfalls.falls import falls
-from panfalls.runs import is_within
+from panfalls.falls import falls, pounds_between
+from panfalls.runs import is_size_in
 from panfalls.staying import length, staying
 
 
@@ -18,11 +18,6 @@ def drawn_near(standing, word, rounds):
     return standing - step
 
 
-def is_settled(standing, run):
-    size = abs(standing)
-    return is_within((size, size), run)
-
-
 def settled_from(standing, word):
     """From which round on the standing is that of length(word) rounds later."""
     if not word:
@@ -31,7 +26,7 @@ def settled_from(standing, word):
     now = drawn_near(standing, word, rounds)
     run = staying(word)
     # One round more brings the size below twice the greatest weight; then rounds_to(word) are enough.
-    while not is_settled(now, run):
+    while not is_size_in(now, run):
         now = falls(now, word)[1]
         rounds += 1
     return rounds
@@ -63,13 +58,15 @@ def standing_at(standing, word, many):
     return falls(standing_of_round(standing, word, rounds), word[:rest])[1]
 
 
+def fallen_pounds(word, many):
+    """The pounds of so many grains of a word that isn't bare, again and again."""
+    rounds, rest = divmod(many, len(word))
+    return rounds * sum(word) + sum(word[:rest])
+
+
 def pounds_at(standing, word, many):
     """The pair of the pounds that fell left and right, of so many grains."""
     if not word:
         return (0, 0)
-    rounds, rest = divmod(many, len(word))
-    fallen = rounds * sum(word) + sum(word[:rest])
-    # A pound to the left makes a standing two half pounds more, one to the right as much less.
-    more_left = (standing_at(standing, word, many) - standing) // 2
-    left = (fallen + more_left) // 2
-    return (left, fallen - left)
+    after = standing_at(standing, word, many)
+    return pounds_between(standing, after, fallen_pounds(word, many))

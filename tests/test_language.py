@@ -40,6 +40,17 @@ def nodes(kind):
     return [(name, node) for name, tree in trees() for node in ast.walk(tree) if isinstance(node, kind)]
 
 
+def own_names(tree):
+    """What a file itself binds at module level, as often as it does."""
+    names = []
+    for node in tree.body:
+        if isinstance(node, (ast.FunctionDef, ast.ClassDef)):
+            names.append(node.name)
+        elif isinstance(node, ast.Assign):
+            names += [target.id for target in node.targets]
+    return names
+
+
 class Files(unittest.TestCase):
     def test_names(self):
         for name in files():
@@ -110,6 +121,41 @@ class Code(unittest.TestCase):
         self.assertEqual(nodes(ast.Div), [])
         for name, node in nodes(ast.Constant):
             self.assertNotIsInstance(node.value, (float, complex))
+
+    def test_powers_have_literal_exponents(self):
+        for name, node in nodes(ast.BinOp):
+            if isinstance(node.op, ast.Pow):
+                self.assertIsInstance(node.right, ast.Constant, name)
+                self.assertIn(node.right.value, range(65), name)
+
+    def test_no_percent_sign_in_strings(self):
+        for name, node in nodes(ast.Constant):
+            if isinstance(node.value, str):
+                self.assertNotIn("%", node.value, name)
+
+    def test_names_are_bound_once_and_imported_from_their_own_file(self):
+        own = {name: own_names(tree) for name, tree in trees()}
+        for name, tree in trees():
+            bound = list(own[name])
+            for node in tree.body:
+                if isinstance(node, ast.ImportFrom):
+                    for alias in node.names:
+                        self.assertIn(alias.name, own[node.module.split(".")[1] + ".py"], name)
+                        bound.append(alias.asname or alias.name)
+            self.assertEqual(sorted(bound), sorted(set(bound)), name)
+
+    def test_imports_are_used(self):
+        for name, tree in trees():
+            used = {node.id for node in ast.walk(tree) if isinstance(node, ast.Name)}
+            for node in tree.body:
+                if isinstance(node, ast.ImportFrom):
+                    for alias in node.names:
+                        self.assertIn(alias.name, used, name)
+
+    def test_what_is_iterated_at_once_is_not_stored(self):
+        for name, node in nodes((ast.Assign, ast.Return)):
+            if isinstance(node.value, ast.Call) and isinstance(node.value.func, ast.Name):
+                self.assertNotIn(node.value.func.id, ("zip", "enumerate", "reversed", "range"), name)
 
     def test_is_beside_constants_alone(self):
         for name, node in nodes(ast.Compare):
