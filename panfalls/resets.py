@@ -54,7 +54,5 @@ def told_start(most, sides):
         return None
     # The grains ahead of the last one leave size 1, so the last side tells which of the two it was.
     last = -1 if sides[-1] == LEFT else 1
-    start = gone_back(last, sides[:-1], word[:-1])
-    if start is None or abs(start) >= 2 * most:
-        return None
-    return start
+    # What a weight of reset folds into a run comes of the run ahead alone, so no greater size is gone back to.
+    return gone_back(last, sides[:-1], word[:-1])
