@@ -54,11 +54,12 @@ def exit_at(net, standing, word, number):
     return way_of(net, now, word[number % len(word)])[1]
 
 
+def pounds_passed(net, before, after, fallen):
+    """The rising list of pairs (NAME, pounds) of all that fell from one standing to another, of all exits."""
+    return passed_down(net, fallen, lambda balance, came: pounds_between(before[balance], after[balance], came))
+
+
 def pounds_out(net, standing, word, many):
     """The rising list of pairs (NAME, pounds) of the first so many grains, of all exits."""
     after = standing_behind(net, standing, word, many)
-    return passed_down(
-        net,
-        fallen_pounds(word, many),
-        lambda balance, came: pounds_between(standing[balance], after[balance], came),
-    )
+    return pounds_passed(net, standing, after, fallen_pounds(word, many))

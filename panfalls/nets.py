@@ -84,6 +84,16 @@ def is_standing_of(net, thing):
     return all([is_standing(part) for part in thing])
 
 
+def with_part(parts, at, part):
+    """The tuple with another part at that place."""
+    return parts[:at] + (part,) + parts[at + 1:]
+
+
+def with_leads(net, change):
+    """The list of the net's pairs, each lead being what change tells of it."""
+    return [(change(left), change(right)) for left, right in net]
+
+
 def passed_down(net, first, split):
     """The rising list of pairs of an exit and the sum of what the pans that lead to it pass on.
 
