@@ -157,6 +157,43 @@ class Code(unittest.TestCase):
             if isinstance(node.value, ast.Call) and isinstance(node.value.func, ast.Name):
                 self.assertNotIn(node.value.func.id, ("zip", "enumerate", "reversed", "range"), name)
 
+    def test_lists_instead_of_generators(self):
+        # Works has __eq__ and __len__, so any, all, sum and their kin take lists; nothing is sorted in place.
+        self.assertEqual(nodes((ast.GeneratorExp, ast.Yield, ast.YieldFrom)), [])
+        for name, node in nodes(ast.Attribute):
+            self.assertNotIn(node.attr, ("sort", "format", "bit_count"), name)
+
+    def test_no_decorators_and_no_slash(self):
+        for name, node in nodes((ast.FunctionDef, ast.ClassDef)):
+            self.assertEqual(node.decorator_list, [], node.name)
+        for name, node in nodes(ast.arguments):
+            self.assertEqual(node.posonlyargs, [], name)
+
+    def test_no_name_is_a_method_and_an_attribute(self):
+        methods = {
+            node.name for name, made in nodes(ast.ClassDef) for node in made.body if isinstance(node, ast.FunctionDef)
+        }
+        assigned = {node.attr for name, node in nodes(ast.Attribute) if isinstance(node.ctx, ast.Store)}
+        self.assertEqual(methods & assigned, set())
+        for kind in (int, str, list, dict, set, bytes):
+            self.assertEqual({name for name in methods if not name.startswith("__")} & set(dir(kind)), set())
+
+    def test_own_errors_alone_are_caught(self):
+        own = {node.name for name, node in nodes(ast.ClassDef) if name == "errors.py"}
+        for name, node in nodes(ast.ExceptHandler):
+            self.assertIn(node.type.id, own, name)
+
+    def test_no_two_files_import_from_each_other(self):
+        below = {
+            name[:-3]: {node.module.split(".")[1] for node in tree.body if isinstance(node, ast.ImportFrom)}
+            for name, tree in trees()
+        }
+        while below:
+            free = [name for name in below if not below[name] & set(below)]
+            self.assertTrue(free, below)
+            for name in free:
+                del below[name]
+
     def test_is_beside_constants_alone(self):
         for name, node in nodes(ast.Compare):
             for sign, right in zip(node.ops, node.comparators):
